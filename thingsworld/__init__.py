@@ -1,0 +1,1 @@
+"""Things of a world: kinds, things in things, indexes, questions and kept answers."""
